@@ -1,0 +1,1 @@
+"""Escapes for four places of marked text, and data put at marks."""

@@ -1,0 +1,19 @@
+"""The kinds of faults that reading a text may come to, and the numbers of the refusals."""
+
+UNEXPECTED = 1
+NAME_TOO_LONG = 2
+NAME_TWICE = 3
+WRONG_REFERENCE = 4
+WRONG_MARK = 5
+WRONG_RAW_END = 6
+UNFINISHED = 7
+
+OUT_OF_RANGE = -1
+TOO_MANY_NUMBERS = -2
+TOO_MANY_DATA = -3
+NO_DATA = -4
+NO_SUCH_KIND = -5
+NO_SHORTEST_FORM = -6
+NOT_READ_BACK = -7
+CUT_BELOW_ZERO = -8
+TOO_MANY_MARKS = -9

@@ -1,40 +1,15 @@
 """The calls on one object that holds data, and their answers."""
 
-from markedtext.faults import (
-    CUT_BELOW_ZERO, NO_DATA, NO_SHORTEST_FORM, NO_SUCH_KIND, NOT_READ_BACK, OUT_OF_RANGE, TOO_MANY_DATA,
-    TOO_MANY_MARKS, TOO_MANY_NUMBERS,
-)
+from markedtext.faults import CUT_BELOW_ZERO, NO_DATA, NO_SHORTEST_FORM, NOT_READ_BACK, TOO_MANY_DATA
+from markedtext.putting import Putting, filled_tokens, parts_of, put_of
 from markedtext.readback import cut_of, read_back
 from markedtext.reader import read_text, told_tokens
-from markedtext.signs import HIGHEST_BYTE, HIGHEST_SIGN, counted, is_mark
-from markedtext.writing import BARE, KINDS, escape_of, shortest_form
+from markedtext.refusals import NOT_REFUSED, refusal_of_bytes, refusal_of_marked, refusal_of_row, refusal_of_writing
+from markedtext.signs import HIGHEST_BYTE, counted
+from markedtext.writing import BARE, escape_of, shortest_form, shortest_value
 
 MOST_DATA = 64
 LONGEST_DATUM = 512
-LONGEST_TEXT = 4096
-MOST_MARKS = 256
-
-NOT_REFUSED = 0
-
-
-def refusal_of_row(row, highest, longest):
-    for number in row:
-        if number < 0 or number > highest:
-            return OUT_OF_RANGE
-    return TOO_MANY_NUMBERS if len(row) > longest else NOT_REFUSED
-
-
-def refusal_of_writing(kind, row):
-    if kind not in KINDS:
-        return NO_SUCH_KIND
-    return refusal_of_row(row, HIGHEST_BYTE, LONGEST_TEXT)
-
-
-def refusal_of_marked(row):
-    refusal = refusal_of_row(row, HIGHEST_SIGN, LONGEST_TEXT)
-    if refusal == NOT_REFUSED and len([sign for sign in row if is_mark(sign)]) > MOST_MARKS:
-        return TOO_MANY_MARKS
-    return refusal
 
 
 def begin(data, numbers, row):
@@ -102,6 +77,47 @@ def cut(data, numbers, row):
     return counted(cut_of(row, reading, n))
 
 
+def quotes(data, numbers, row):
+    refusal = refusal_of_bytes(row)
+    if refusal != NOT_REFUSED:
+        return [refusal]
+    return shortest_value(row)
+
+
+def spots(data, numbers, row):
+    refusal = refusal_of_marked(row)
+    if refusal != NOT_REFUSED:
+        return [refusal]
+    reading = read_text(row)
+    if reading.fault != 0:
+        return [1, reading.fault, reading.count]
+    told = [0, len(reading.spots)]
+    for spotted in reading.spots:
+        told.extend(list(spotted))
+    return told
+
+
+def put(data, numbers, row):
+    putting = Putting(data, row)
+    if putting.refusal != NOT_REFUSED:
+        return [putting.refusal]
+    return counted(put_of(row, putting.forms))
+
+
+def parts(data, numbers, row):
+    putting = Putting(data, row)
+    if putting.refusal != NOT_REFUSED:
+        return [putting.refusal]
+    return [len(putting.forms)] + parts_of(row, putting.forms)
+
+
+def fill(data, numbers, row):
+    putting = Putting(data, row)
+    if putting.refusal != NOT_REFUSED:
+        return [putting.refusal]
+    return told_tokens(filled_tokens(data, putting.tokens))
+
+
 def tokens(data, numbers, row):
     refusal = refusal_of_marked(row)
     if refusal != NOT_REFUSED:
@@ -112,7 +128,21 @@ def tokens(data, numbers, row):
     return [0] + told_tokens(reading.tokens)
 
 
-CALLS = {0: begin, 1: datum, 2: drop, 3: escape, 4: shortest, 5: back, 6: cut, 12: tokens}
+CALLS = {
+    0: begin,
+    1: datum,
+    2: drop,
+    3: escape,
+    4: shortest,
+    5: back,
+    6: cut,
+    7: quotes,
+    8: spots,
+    9: put,
+    10: parts,
+    11: fill,
+    12: tokens,
+}
 
 # The calls that hand in no list, and how many whole numbers stand ahead of the list of the others, if any.
 WITHOUT_ROW = (0, 2)

@@ -4,12 +4,14 @@ from markedtext.faults import UNFINISHED, WRONG_MARK
 from markedtext.modes import CLOSE_TOKEN, ENDED, FAULT, OPEN_TOKEN, RAW, RUN_TOKEN, TEXT, step
 from markedtext.signs import counted, is_mark, signs_of
 
-# Text, behind =, and the three sorts of values.
-MARK_MODES = (0, 11, 12, 13, 14)
+# The spot of a mark, by the mode that takes it: text, the three sorts of values, behind =, raw text.
+SPOTS = {0: 0, 12: 1, 13: 2, 14: 3, 11: 4, 22: 5}
+SPOT_BEHIND_EQUALS = 4
+SPOT_IN_RAW = 5
 
 
 class Reader:
-    """Reads one sign after another; at a fault, count is its place.
+    """Reads one sign after another; at a fault, count is its place. Each mark is kept in spots with its spot.
 
     A token is kept as a tuple: (1, ended, name, attributes) for an open tag, (2, name) for a close tag, and its
     kind and signs for the others. Its place is not kept: no answer tells it.
@@ -24,13 +26,17 @@ class Reader:
         self.attribute_name = []
         self.body = []
         self.run = []
+        self.spots = []
         self.fault = 0
 
     def take(self, sign):
-        if is_mark(sign) and not self.takes_mark():
-            self.fail(WRONG_MARK)
-        else:
+        if not is_mark(sign):
             step(self, sign)
+        elif self.takes_mark():
+            self.spots.append((sign, SPOTS[self.mode]))
+            step(self, sign)
+        else:
+            self.fail(WRONG_MARK)
         if self.mode != FAULT:
             self.count += 1
 
@@ -46,7 +52,7 @@ class Reader:
         self.mode = FAULT
 
     def takes_mark(self):
-        return self.mode in MARK_MODES or (self.mode == RAW and self.tag_name == signs_of("calc"))
+        return self.mode in SPOTS and (self.mode != RAW or self.tag_name == signs_of("calc"))
 
     def tell_run(self, kind):
         self.tokens.append((kind, self.run))

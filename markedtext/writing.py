@@ -2,6 +2,8 @@
 
 from markedtext.signs import AND, is_bare_sign, is_digit, is_letter, signs_of
 
+BETWEEN_QUOTES = 1
+BETWEEN_APOSTROPHES = 2
 BARE = 3
 KINDS = (0, 1, 2, 3)
 
@@ -52,3 +54,18 @@ def shortest_form(kind, content):
     for byte in content:
         written.extend(shortest_of_byte(kind, byte))
     return written
+
+
+def value_length(kind, content):
+    """How many signs a value has in its shortest form, with the quotes of the kinds that have them."""
+    quotes = 0 if kind == BARE else 2
+    return len(shortest_form(kind, content)) + quotes
+
+
+def shortest_value(content):
+    """The kind in which a value that holds these bytes has the fewest signs, and how many."""
+    # Of kinds with equally many the one tried first is kept.
+    kinds = [BARE, BETWEEN_QUOTES, BETWEEN_APOSTROPHES] if content else [BETWEEN_QUOTES, BETWEEN_APOSTROPHES]
+    lengths = [value_length(kind, content) for kind in kinds]
+    least = min(lengths)
+    return [kinds[lengths.index(least)], least]

@@ -2,81 +2,10 @@
 
 import unittest
 
-from calling import HUGE, AnswerCase, back, drop, datum, one, row, several, signs, tokens
-
-LETTERS = signs("abcdefghijklmnopqrstuvwxyz")
-CAPITALS = signs("ABCDEFGHIJKLMNOPQRSTUVWXYZ")
-DIGITS = signs("0123456789")
-NAME_SIGNS = LETTERS + DIGITS + signs("-")
-BLANKS = [9, 10, 13, 32]
-ALL = list(range(256))
-BARE = [byte for byte in ALL if byte not in BLANKS + signs("\"&'<=>`")]
-BODY = LETTERS + CAPITALS + DIGITS + signs("#")
-
-
-def run(content):
-    return [0] + row(content)
-
-
-def tag(name, *attributes, ended=0):
-    told = [1, ended] + row(name) + [len(attributes)]
-    for attribute in attributes:
-        told += row(attribute[0]) + row(attribute[1])
-    return told
-
-
-def close(name):
-    return [2] + row(name)
-
-
-def comment(content):
-    return [3] + row(content)
-
-
-def raw(content):
-    return [4] + row(content)
-
-
-def fine(*told):
-    return [0, len(told)] + [number for token in told for number in token]
-
-
-def marked(*pieces):
-    """A text of printed characters and marks."""
-    listed = []
-    for piece in pieces:
-        listed += [piece] if isinstance(piece, int) else signs(piece)
-    return listed
-
-
-# A text that brings a new reader to each mode, the bytes that are taken there, and the kind of fault of the others.
-MODES = {
-    0: ("", ALL, 1),
-    1: ("&lt", BODY + [59], 4),
-    2: ("<a b=\"&lt", BODY + [59], 4),
-    3: ("<a b='&lt", BODY + [59], 4),
-    4: ("<a b=&lt", BODY + [59], 4),
-    5: ("<", LETTERS + signs("/!"), 1),
-    6: ("<a", NAME_SIGNS + BLANKS + signs("/>"), 1),
-    7: ("</", LETTERS, 1),
-    8: ("</a", NAME_SIGNS + signs(">"), 1),
-    9: ("<a ", LETTERS + BLANKS + signs("/>"), 1),
-    10: ("<a b", NAME_SIGNS + BLANKS + signs("/>="), 1),
-    11: ("<a b=", BARE + signs("\"'&"), 1),
-    12: ("<a b=\"", ALL, 1),
-    13: ("<a b='", ALL, 1),
-    14: ("<a b=c", BARE + BLANKS + signs("&>"), 1),
-    15: ("<a b=\"\"", BLANKS + signs("/>"), 1),
-    16: ("<a/", signs(">"), 1),
-    17: ("<!", signs("-"), 1),
-    18: ("<!-", signs("-"), 1),
-    19: ("<!--", ALL, 1),
-    20: ("<!---", ALL, 1),
-    21: ("<!----", ALL, 1),
-    22: ("<calc>", ALL, 1),
-    23: ("<calc><", ALL, 1),
-    24: ("<calc></ca", signs("l"), 6),
-}
+from calling import (
+    ALL, HUGE, MODES, AnswerCase, back, close, comment, datum, drop, fine, marked, one, raw, run, several, signs, tag,
+    tokens,
+)
 
 
 class Refusals(AnswerCase):
